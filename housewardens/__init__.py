@@ -1,0 +1,1 @@
+"""Housewardens: devices that hear a house, for any number of people."""

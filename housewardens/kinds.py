@@ -1,0 +1,40 @@
+"""What any value is: the plain kinds that books, devices and all papers are checked by."""
+
+AWAY = -1
+GREATEST_ROOM = 9
+GREATEST_FACE = 99
+
+
+def is_integer(thing):
+    """Whether any value is an integer; a bool is none."""
+    return isinstance(thing, int) and not isinstance(thing, bool)
+
+
+def is_between(thing, low, high):
+    """Whether any value is an integer from low to high."""
+    return is_integer(thing) and low <= thing <= high
+
+
+def are_between(thing, low, high):
+    """Whether any value is a tuple, perhaps empty, of integers from low to high."""
+    return isinstance(thing, tuple) and all([is_between(part, low, high) for part in thing])
+
+
+def do_ascend(row):
+    """Whether parts that can be compared are sorted, none of them twice."""
+    return all([row[at] < row[at + 1] for at in range(len(row) - 1)])
+
+
+def are_ascending(thing, low, high):
+    """Whether any value is an ascending tuple, perhaps empty, of integers from low to high."""
+    return are_between(thing, low, high) and do_ascend(thing)
+
+
+def are_letters(thing):
+    """Whether any value is an ascending string, perhaps empty, of letters from a to z."""
+    return isinstance(thing, str) and all(["a" <= letter <= "z" for letter in thing]) and do_ascend(thing)
+
+
+def is_tuple_of(thing, many):
+    """Whether any value is a tuple with so many parts."""
+    return isinstance(thing, tuple) and len(thing) == many
