@@ -166,7 +166,8 @@ def pictures_behind(ward, picture):
 def pictures_of(ward, *, most=60):
     """All pictures to which runs lead, ascending; raises TooMany(most) if there are more than most."""
     pictures = [first_picture(ward)]
-    seen = {first_picture(ward)}
+    seen = set()
+    seen.add(first_picture(ward))
     at = 0
     while at < len(pictures) and len(pictures) <= most:
         for picture in pictures_behind(ward, pictures[at]):
@@ -183,7 +184,8 @@ def first_run_among(ward, harms):
     """The first run whose last picture has one of some harms; there has to be one."""
     # Runs are met in their order, as each is lengthened by ascending choices: the first one to a picture is kept.
     ends = [((), first_picture(ward))]
-    seen = {first_picture(ward)}
+    seen = set()
+    seen.add(first_picture(ward))
     at = 0
     while not has_some_harm(ward, ends[at][1], harms):
         run, picture = ends[at]

@@ -4,6 +4,9 @@ import importlib
 import inspect
 import unittest
 
+from housewardens.devices import Device
+from tests.helpers import FACES, HALL, PLAIN, WARD, exact
+
 FUNCTIONS = {
     "books": (
         "is_heard(thing)",
@@ -64,6 +67,32 @@ METHODS = {
 }
 
 
+RUN = ((0, 1), (1, 2))
+VALUES = {
+    "thing": RUN,
+    "book": HALL,
+    "faces": FACES,
+    "device": PLAIN,
+    "ward": WARD,
+    "where": (1,),
+    "face": 0,
+    "choice": (0, 1),
+    "state": 0,
+    "picture": ((1,), 0),
+    "run": RUN,
+    "harm": "shut",
+    "harms": ("bell", "shut"),
+    "most": 7,
+    "step": (0, 1, 0),
+    "further": (1, 1, 2),
+}
+
+
+def told(things):
+    """A text of values in which objects stand by their texts."""
+    return exact([str(thing) if hasattr(thing, "read") else thing for thing in things])
+
+
 class Interface(unittest.TestCase):
     def test_functions(self):
         for file, rows in FUNCTIONS.items():
@@ -72,6 +101,36 @@ class Interface(unittest.TestCase):
                 function = getattr(module, row.partition("(")[0])
                 self.assertEqual(f"{function.__name__}{inspect.signature(function)}", row)
                 self.assertEqual(function.__module__, module.__name__)
+
+    def test_calls(self):
+        for file, rows in FUNCTIONS.items():
+            for row in rows:
+                function = getattr(importlib.import_module(f"housewardens.{file}"), row.partition("(")[0])
+                names = list(inspect.signature(function).parameters)
+                before = told(VALUES.values())
+                more = {name: VALUES[name] for name in names if name == "most"}
+                by_position = function(*[VALUES[name] for name in names if name != "most"], **more)
+                by_name = function(**{name: VALUES[name] for name in reversed(names)})
+                self.assertEqual(exact(by_position), exact(by_name), row)
+                self.assertEqual(exact(by_position), exact(function(**{name: VALUES[name] for name in names})), row)
+                self.assertEqual(before, told(VALUES.values()), row)
+
+    def test_checkers_answer_with_bools(self):
+        for file, rows in FUNCTIONS.items():
+            for row in rows:
+                name = row.partition("(")[0]
+                if name.startswith(("is_", "are_", "has_", "do_")) or name.endswith("_holds"):
+                    function = getattr(importlib.import_module(f"housewardens.{file}"), name)
+                    names = inspect.signature(function).parameters
+                    self.assertIsInstance(function(**{part: VALUES[part] for part in names}), bool)
+
+    def test_methods_leave_their_objects_alone(self):
+        before = told((HALL, PLAIN, WARD))
+        for _ in range(2):
+            self.assertEqual(len(HALL.without_moves((0,)).moves), 3)
+            self.assertEqual(PLAIN.led(0, "a"), 1)
+            self.assertEqual(PLAIN, Device.read(str(PLAIN)))
+        self.assertEqual(before, told((HALL, PLAIN, WARD)))
 
     def test_methods(self):
         for file, rows in METHODS.items():
