@@ -1,10 +1,8 @@
 """Goings: the steps of a run, and the walks by which people make it."""
 
 from housewardens.books import staying
-from housewardens.kinds import is_integer, is_tuple_of
+from housewardens.kinds import STAYS, is_integer, is_tuple_of
 from housewardens.wards import along, face_in
-
-STAYS = -1
 
 
 def steps_of(ward, run):

@@ -1,13 +1,25 @@
 """What any value is: the plain kinds that books, devices and all papers are checked by."""
 
 AWAY = -1
+STAYS = -1
 GREATEST_ROOM = 9
 GREATEST_FACE = 99
+LETTERS = "abcdefghijklmnopqrstuvwxyz"
 
 
 def is_integer(thing):
     """Whether any value is an integer; a bool is none."""
     return isinstance(thing, int) and not isinstance(thing, bool)
+
+
+def is_number_from(thing, least):
+    """Whether any value is an integer from some number on."""
+    return is_integer(thing) and thing >= least
+
+
+def are_integers(thing):
+    """Whether any value is a tuple, perhaps empty, of integers."""
+    return isinstance(thing, tuple) and all([is_integer(part) for part in thing])
 
 
 def is_between(thing, low, high):

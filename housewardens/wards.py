@@ -14,8 +14,9 @@ from housewardens.books import (
     where_behind,
 )
 from housewardens.devices import Device, are_faces, device_lines, device_told, silent_ticks
-from housewardens.errors import BadChoice, BadText, BadWard, TooMany
+from housewardens.errors import BadChoice, BadText, BadWard
 from housewardens.kinds import do_ascend, is_between, is_tuple_of
+from housewardens.searches import all_met
 from housewardens.texts import check_end, end_of_kind, lines_of, parts_of_many
 
 YES = "yes"
@@ -165,19 +166,12 @@ def pictures_behind(ward, picture):
 
 def pictures_of(ward, *, most=60):
     """All pictures to which runs lead, ascending; raises TooMany(most) if there are more than most."""
-    pictures = [first_picture(ward)]
-    seen = set()
-    seen.add(first_picture(ward))
-    at = 0
-    while at < len(pictures) and len(pictures) <= most:
-        for picture in pictures_behind(ward, pictures[at]):
-            if picture not in seen:
-                seen.add(picture)
-                pictures.append(picture)
-        at += 1
-    if len(pictures) > most:
-        raise TooMany(most)
-    return tuple(sorted(pictures))
+    return tuple(all_pictures(ward, most))
+
+
+def all_pictures(ward, most=None):
+    """All pictures to which runs lead, ascending, as a list; raises TooMany(most) if there are more than most."""
+    return sorted(all_met([first_picture(ward)], lambda picture: pictures_behind(ward, picture), most))
 
 
 def first_run_among(ward, harms):

@@ -4,8 +4,12 @@ import importlib
 import inspect
 import unittest
 
+from housewardens.books import Book
 from housewardens.devices import Device
-from tests.helpers import FACES, HALL, PLAIN, WARD, exact
+from housewardens.guests import Guest
+from housewardens.wards import Ward
+from tests import plain
+from tests.helpers import FACES, HALL, PLAIN, WARD, exact, variants, wild_values
 
 FUNCTIONS = {
     "books": (
@@ -39,6 +43,106 @@ FUNCTIONS = {
         "do_make(ward, run, thing)",
         "are_apart(ward, run, step, further)",
     ),
+    "walks": (
+        "fewest_people(ward, run)",
+        "people_paper(ward, run)",
+        "people_holds(ward, run, thing)",
+        "can_make(ward, run, many)",
+    ),
+    "crowds": (
+        "first_crowds(ward, many)",
+        "crowds_behind(ward, pair)",
+        "crowds_met(ward, many, *, most=1500)",
+    ),
+    "enough": (
+        "run_for(ward, many, picture)",
+        "judge_many(ward, many, picture, *, most=1500)",
+        "many_holds(ward, many, picture, thing)",
+        "fewest_for(ward, picture)",
+        "enough(ward)",
+    ),
+    "lots": (
+        "first_lot(book)",
+        "is_lot(book, thing)",
+        "lot_after(book, lot, face, heard)",
+        "answers(book, lot, face)",
+        "lot_behind(ward, log)",
+        "stands_met(ward, *, most=60)",
+        "surely_there(ward, log)",
+        "perhaps_there(ward, log)",
+    ),
+    "logs": (
+        "is_log(thing)",
+        "state_behind(device, log)",
+        "faces_shown(device, log)",
+        "can_come(ward, log)",
+        "logs_that_come(ward, length)",
+        "first_log(ward, where, *, most=60)",
+    ),
+    "alike": (
+        "are_alike(one, other)",
+        "parting_log(one, other)",
+        "least_device(device)",
+        "are_alike_beside(ward, other, *, most=60)",
+        "log_beside(ward, other, *, most=60)",
+        "judge_alike(ward, other, *, most=60)",
+        "alike_holds(ward, other, thing)",
+    ),
+    "plays": (
+        "safe_faces(book, faces, lot, harms, *, choice=None)",
+        "is_waiting(book, lot, harms)",
+    ),
+    "keepers": (
+        "can_keep(book, faces, harms, *, ears=None, choice=None, most=60)",
+        "judge_keeping(book, faces, harms, *, ears=None, choice=None, most=60)",
+        "keeper_of(book, faces, harms, *, ears=None, choice=None, most=60)",
+    ),
+    "keeppapers": (
+        "keeping_holds(book, faces, harms, thing, *, ears=None, choice=None)",
+        "rows_of_ward(ward, *, ears=None, most=60)",
+    ),
+    "cuts": (
+        "cut_heard(heard, ears)",
+        "answers_by_ears(book, lot, face, ears)",
+    ),
+    "ears": (
+        "least_ears(book, faces, harms, *, choice=None, most=60)",
+        "least_choices(book, faces, harms, *, ears=None, most=60)",
+        "ears_paper(book, faces, harms, *, choice=None, most=60)",
+        "ears_paper_holds(book, faces, harms, thing, *, choice=None)",
+        "choices_paper(book, faces, harms, *, ears=None, most=60)",
+        "choices_paper_holds(book, faces, harms, thing, *, ears=None)",
+    ),
+    "surely": (
+        "is_sure_lot(book, lot)",
+        "rounds_for(book, faces, *, harms=(), most=60)",
+        "rounds_by_lot(book, faces, *, harms=(), most=60)",
+        "face_for(book, faces, lot, *, harms=(), most=60)",
+        "surer(book, faces, *, harms=(), most=60)",
+        "rounds_of(ward, *, most=60)",
+        "gap_for(book, faces, *, harms=(), most=60)",
+        "stayer(book, faces, *, harms=(), most=60)",
+        "gap_of(ward, *, most=60)",
+    ),
+    "surepapers": (
+        "judge_surely(book, faces, *, harms=(), most=60)",
+        "surely_holds(book, faces, harms, thing)",
+        "judge_rounds(book, faces, rounds, *, harms=(), most=60)",
+        "rounds_hold(book, faces, rounds, harms, thing)",
+        "judge_gap(book, faces, gap, *, harms=(), most=60)",
+        "gap_holds(book, faces, gap, harms, thing)",
+    ),
+    "bars": (
+        "barred_book(book, bar)",
+        "is_bar(book, thing)",
+        "fewest_bars(book, faces, harms, *, greatest=3, most=60)",
+        "bars_paper(book, faces, harms, *, greatest=3, most=60)",
+        "bars_paper_holds(book, faces, harms, thing)",
+    ),
+    "guests": (
+        "guest_moves(guest, standing, face)",
+        "guest_goes(guest, standing, move)",
+    ),
 }
 
 METHODS = {
@@ -64,10 +168,18 @@ METHODS = {
         "Ward.__str__(self)",
         "Ward.read(text)",
     ),
+    "guests": (
+        "Guest.__init__(self, rooms, moves)",
+        "Guest.__len__(self)",
+        "Guest.__eq__(self, other)",
+        "Guest.__str__(self)",
+        "Guest.read(text)",
+    ),
 }
 
-
 RUN = ((0, 1), (1, 2))
+# In this book somebody goes for ever, so that it becomes sure, and each harm but "open" can be kept.
+GOING = Book((0, -1), ((0, 1, "a", (0, 1), (), ()),), (0,))
 VALUES = {
     "thing": RUN,
     "book": HALL,
@@ -82,15 +194,68 @@ VALUES = {
     "run": RUN,
     "harm": "shut",
     "harms": ("bell", "shut"),
-    "most": 7,
+    "most": 70,
     "step": (0, 1, 0),
     "further": (1, 1, 2),
+    "many": 3,
+    "pair": ((1, 2, 0), 0),
+    "lot": ((1,),),
+    "log": ("", "a"),
+    "heard": "a",
+    "length": 2,
+    "one": PLAIN,
+    "other": Device((0,), (), (0,)),
+    "ears": "ab",
+    "rounds": 2,
+    "gap": 2,
+    "bar": (0, 2),
+    "greatest": 2,
+    "guest": Guest((-1, 3), ((0, 1, "a", (0,)),)),
+    "standing": 0,
+    "move": -1,
+}
+# What these take of another kind than the others do.
+OTHERS = {
+    "surely": {"book": GOING, "lot": ((0,),), "ward": Ward(GOING, FACES, PLAIN)},
+    "surepapers": {"book": GOING},
+    "keepers": {"choice": (0,)},
+    "keeppapers": {"choice": (0,)},
+    "plays": {"choice": (0,)},
+    "ears": {"choice": (0,)},
 }
 
 
 def told(things):
     """A text of values in which objects stand by their texts."""
-    return exact([str(thing) if hasattr(thing, "read") else thing for thing in things])
+    return exact([plain.told(thing) for thing in things])
+
+
+def calls():
+    """Each function of the interface, with the values that it is passed."""
+    for file, rows in FUNCTIONS.items():
+        for row in rows:
+            function = getattr(importlib.import_module(f"housewardens.{file}"), row.partition("(")[0])
+            values = {**VALUES, **OTHERS.get(file, {})}
+            yield function, {name: values[name] for name in inspect.signature(function).parameters}
+
+
+def found(function, *values, **more):
+    """What a call returns, told as a text; what is yielded is told as a list."""
+    result = function(*values, **more)
+    return plain.told(list(result) if inspect.isgenerator(result) else result)
+
+
+def plain_papers():
+    """Values like papers of all kinds, with parts of other kinds."""
+    rows = ((((0,),), 0, "lost"), (((0,), (1,)), 1, 0), (((0,),), 0), ((0,),), (((0,),), 0, 0), ("", ()), ((0,), ()))
+    words = ("kept", "refused", "sure", "late", "never", "stays", "breaks", "alike", "parted", "closed", "run", "people")
+    for word in (*words, "ears", "choices", "barred", "no bar"):
+        yield from ((word,), (word, ()), (word, (), ()), (word, 0, (), ()), (word, 0, ()), (word, PLAIN, ()), [word, ()])
+        for row in rows:
+            yield from ((word, (row,)), (word, PLAIN, (row,)), (word, (row, row)), (word, (row,), (row,)))
+            yield from ((word, 1, (row,)), (word, 0, (row,), (row,)), (word, 0, (((), row),), ()), (word, ((row, None),)))
+    for thing in variants(("kept", PLAIN, (rows[2],)), [None, True, -1, "a", [], {}, ((),)]):
+        yield thing
 
 
 class Interface(unittest.TestCase):
@@ -103,26 +268,29 @@ class Interface(unittest.TestCase):
                 self.assertEqual(function.__module__, module.__name__)
 
     def test_calls(self):
-        for file, rows in FUNCTIONS.items():
-            for row in rows:
-                function = getattr(importlib.import_module(f"housewardens.{file}"), row.partition("(")[0])
-                names = list(inspect.signature(function).parameters)
-                before = told(VALUES.values())
-                more = {name: VALUES[name] for name in names if name == "most"}
-                by_position = function(*[VALUES[name] for name in names if name != "most"], **more)
-                by_name = function(**{name: VALUES[name] for name in reversed(names)})
-                self.assertEqual(exact(by_position), exact(by_name), row)
-                self.assertEqual(exact(by_position), exact(function(**{name: VALUES[name] for name in names})), row)
-                self.assertEqual(before, told(VALUES.values()), row)
+        for function, values in calls():
+            kinds = {name: row.kind for name, row in inspect.signature(function).parameters.items()}
+            more = {name: value for name, value in values.items() if kinds[name] is inspect.Parameter.KEYWORD_ONLY}
+            row = [value for name, value in values.items() if name not in more]
+            before = told(values.values())
+            by_position = found(function, *row, **more)
+            self.assertEqual(by_position, found(function, **dict(reversed(values.items()))), function)
+            self.assertEqual(by_position, found(function, **values), function)
+            self.assertEqual(before, told(values.values()), function)
+            if more:
+                self.assertRaises(TypeError, function, *row, *more.values())
 
     def test_checkers_answer_with_bools(self):
-        for file, rows in FUNCTIONS.items():
-            for row in rows:
-                name = row.partition("(")[0]
-                if name.startswith(("is_", "are_", "has_", "do_")) or name.endswith("_holds"):
-                    function = getattr(importlib.import_module(f"housewardens.{file}"), name)
-                    names = inspect.signature(function).parameters
-                    self.assertIsInstance(function(**{part: VALUES[part] for part in names}), bool)
+        heads = ("is_", "are_", "has_", "can_", "do_", "does_", "knows_")
+        for function, values in calls():
+            if function.__name__.startswith(heads) or function.__name__.endswith(("_holds", "_hold")):
+                self.assertIsInstance(function(**values), bool, function)
+
+    def test_checkers_raise_nothing(self):
+        for function, values in calls():
+            if "thing" in values:
+                for thing in [*wild_values(), *plain_papers()]:
+                    self.assertIsInstance(function(**{**values, "thing": thing}), bool, (function, thing))
 
     def test_methods_leave_their_objects_alone(self):
         before = told((HALL, PLAIN, WARD))
@@ -143,7 +311,7 @@ class Interface(unittest.TestCase):
                 self.assertEqual(f"{kind}.{name}{inspect.signature(getattr(own, name))}", row)
 
     def test_read_is_a_class_method(self):
-        for file, kind in (("books", "Book"), ("devices", "Device"), ("wards", "Ward")):
+        for file, kind in (("books", "Book"), ("devices", "Device"), ("wards", "Ward"), ("guests", "Guest")):
             own = getattr(importlib.import_module(f"housewardens.{file}"), kind)
             self.assertIsInstance(vars(own)["read"], classmethod)
 

@@ -13,8 +13,13 @@ BUILTINS = set(
     "IndexError LookupError ZeroDivisionError NotImplementedError RuntimeError NotImplemented".split()
 )
 WORDS = re.compile(
-    r"\b(type|typing|enum|Enum|Flag|Generic|Protocol|ABC|namedtuple|NamedTuple|TypedDict|register|mro|elements|open|"
-    r"input|law|global|async|await)\b"
+    r"\b(type|typing|typing_extensions|enum|Enum|IntEnum|StrEnum|Flag|IntFlag|Generic|Protocol|ABC|ABCMeta|namedtuple|"
+    r"NamedTuple|TypedDict|TYPE_CHECKING|abstractmethod|global|async|await)\b|dataclass|overload|contextmanager"
+)
+NAMES = set(
+    "register mro elements open input law version_info with_traceback add_note attrgetter breakpoint builtins compile "
+    "copyright credits delattr dir eval exec exit gc getattr globals hasattr help id importlib license locals "
+    "methodcaller os quit setattr super sys type vars next iter".split()
 )
 METHODS = set(
     "append clear copy count endswith extend find get index insert isalnum isalpha isdigit islower isspace isupper "
@@ -24,7 +29,7 @@ METHODS = set(
 )
 SPECIAL = {"__init__", "__eq__", "__str__", "__repr__", "__len__", "__or__"}
 BARRED = (
-    ast.GeneratorExp, ast.Yield, ast.YieldFrom, ast.Global, ast.AsyncFunctionDef, ast.Await, ast.Import, ast.Div,
+    ast.GeneratorExp, ast.YieldFrom, ast.Global, ast.AsyncFunctionDef, ast.Await, ast.Import, ast.Div,
     ast.MatMult, ast.AnnAssign,
 )  # fmt: skip
 
@@ -35,6 +40,11 @@ def files():
 
 def trees():
     return [(path, ast.parse(path.read_text())) for path in files()]
+
+
+def is_set(node):
+    """Whether an expression makes a set."""
+    return isinstance(node, (ast.Set, ast.SetComp)) or isinstance(node, ast.Call) and getattr(node.func, "id", "") == "set"
 
 
 class Language(unittest.TestCase):
@@ -125,7 +135,14 @@ class Language(unittest.TestCase):
                     self.assertIn(node.id, BUILTINS, (path, node.lineno))
 
     def test_methods(self):
-        own = {"read", "led", "without_moves"}
+        own = {
+            node.name
+            for _, tree in trees()
+            for kind in ast.walk(tree)
+            if isinstance(kind, ast.ClassDef)
+            for node in kind.body
+            if isinstance(node, ast.FunctionDef)
+        }
         for path, tree in trees():
             for node in ast.walk(tree):
                 if isinstance(node, ast.Call) and isinstance(node.func, ast.Attribute):
@@ -138,6 +155,74 @@ class Language(unittest.TestCase):
                 if isinstance(node, (ast.Module, ast.ClassDef, ast.FunctionDef)) and ast.get_docstring(node):
                     del node.body[0]
             self.assertIsNone(WORDS.search(ast.unparse(tree)), path)
+
+    def test_names_that_are_not_used(self):
+        for path, tree in trees():
+            for node in ast.walk(tree):
+                for part in ("id", "attr", "name", "arg"):
+                    self.assertNotIn(getattr(node, part, None), NAMES, (path, getattr(node, "lineno", 0)))
+
+    def test_generators_are_called_as_such_alone(self):
+        made = {}
+        for path, tree in trees():
+            for node in ast.walk(tree):
+                if isinstance(node, ast.FunctionDef):
+                    made.setdefault(node.name, []).append(any(isinstance(row, ast.Yield) for row in ast.walk(node)))
+        yielding = [name for name, rows in made.items() if any(rows)]
+        self.assertEqual([made[name] for name in yielding], [[True]] * len(yielding))
+        for path, tree in trees():
+            used = [node.id for node in ast.walk(tree) if isinstance(node, ast.Name) and node.id in yielding]
+            self.assertEqual(used, [], path)
+
+    def test_powers_have_plain_exponents(self):
+        for path, tree in trees():
+            for node in ast.walk(tree):
+                if isinstance(node, ast.BinOp) and isinstance(node.op, ast.Pow):
+                    self.fail((path, node.lineno))
+
+    def test_methods_and_attributes_of_a_class_have_unlike_names(self):
+        for path, tree in trees():
+            for kind in ast.walk(tree):
+                if isinstance(kind, ast.ClassDef):
+                    methods = {row.name for row in kind.body if isinstance(row, ast.FunctionDef)}
+                    for node in ast.walk(kind):
+                        if isinstance(node, ast.Attribute) and isinstance(node.ctx, ast.Store):
+                            self.assertNotIn(node.attr, methods, (path, kind.name))
+
+    def test_stored_sets_are_used_plainly(self):
+        for path, tree in trees():
+            for function in ast.walk(tree):
+                if isinstance(function, ast.FunctionDef):
+                    self.check_sets(path, function)
+
+    def check_sets(self, path, function):
+        """A set is stored once, and then only asked, added to, counted or sorted."""
+        stored = [
+            node.targets[0].id
+            for node in ast.walk(function)
+            if isinstance(node, ast.Assign) and isinstance(node.targets[0], ast.Name) and is_set(node.value)
+        ]
+        self.assertEqual(len(stored), len(set(stored)), (path, function.name))
+        allowed = set()
+        for node in ast.walk(function):
+            if isinstance(node, ast.Attribute) and node.attr in ("add", "discard"):
+                allowed.add(node.value)
+            elif isinstance(node, ast.Compare) and isinstance(node.ops[0], (ast.In, ast.NotIn)):
+                allowed.add(node.comparators[0])
+            elif isinstance(node, ast.Call) and getattr(node.func, "id", None) in ("len", "sorted"):
+                allowed |= set(node.args)
+        for node in ast.walk(function):
+            if isinstance(node, ast.Name) and node.id in stored and isinstance(node.ctx, ast.Load):
+                self.assertIn(node, allowed, (path, function.name, node.lineno))
+            if isinstance(node, (ast.Lambda, ast.FunctionDef)) and node is not function:
+                inner = {row.id for row in ast.walk(node) if isinstance(row, ast.Name)}
+                self.assertFalse(inner & set(stored), (path, function.name))
+
+    def test_any_and_all_take_lists(self):
+        for path, tree in trees():
+            for node in ast.walk(tree):
+                if isinstance(node, ast.Call) and getattr(node.func, "id", None) in ("any", "all"):
+                    self.assertIsInstance(node.args[0], ast.ListComp, (path, node.lineno))
 
     def test_sets_are_kept_plain(self):
         for path, tree in trees():

@@ -1,0 +1,133 @@
+"""Calls as large as the document lets them be answer in a short time."""
+
+import itertools
+import random
+import time
+import unittest
+
+from housewardens.alike import alike_holds, are_alike, judge_alike, least_device, parting_log
+from housewardens.bars import bars_paper, bars_paper_holds, fewest_bars
+from housewardens.books import Book
+from housewardens.crowds import crowds_behind, crowds_met
+from housewardens.devices import Device
+from housewardens.ears import choices_paper, choices_paper_holds, ears_paper, ears_paper_holds
+from housewardens.enough import enough, fewest_for, judge_many, many_holds, run_for
+from housewardens.keepers import judge_keeping
+from housewardens.keeppapers import keeping_holds
+from housewardens.logs import first_log, logs_that_come
+from housewardens.lots import stands_met
+from housewardens.surely import gap_for, rounds_by_lot
+from housewardens.surepapers import gap_holds, judge_gap, judge_rounds, rounds_hold
+from housewardens.walks import can_make, people_holds, people_paper
+from housewardens.wards import Ward, pictures_of
+from tests.helpers import HUGE, some_run
+from tests.plain import BUSY, OPEN_SHUT, THREE_FACES, counting_device
+
+# Far more than a call takes here: so that a slow machine does not fail, and a search without end does.
+SECONDS = 6
+RING = ((False, True), (True, True), (True, True))
+MANY_LOTS = Book(
+    (-1, -1, 1, 1),
+    (
+        (0, 2, "b", (1, 2), (), ()),
+        (0, 3, "", (0, 1), (), ()),
+        (1, 1, "b", (0, 2), (), ()),
+        (1, 0, "", (0, 1), (), ()),
+        (2, 1, "b", (1, 2), (), ()),
+        (2, 0, "b", (0, 1), (), ()),
+        (3, 2, "", (0, 1), (), ()),
+        (3, 1, "c", (0, 2), (), ()),
+    ),
+    (0,),
+)
+
+
+def large_device(rng, states=6, faces=3):
+    strings = ["".join(row) for many in range(4) for row in itertools.combinations("abcde", many)]
+    keys = sorted(rng.sample([(state, heard) for state in range(states) for heard in strings], 40))
+    steps = tuple((*key, rng.randrange(states)) for key in keys)
+    shown = tuple(rng.randrange(faces) for _ in range(states))
+    return Device(shown, steps, tuple(rng.randrange(states) for _ in range(states)))
+
+
+class Speed(unittest.TestCase):
+    def quickly(self, call, *values, **more):
+        begin = time.monotonic()
+        found = call(*values, **more)
+        self.assertLess(time.monotonic() - begin, SECONDS, call)
+        return found
+
+    def test_people(self):
+        rng = random.Random(201)
+        for ward in (Ward(BUSY, THREE_FACES, counting_device("a", 6, 3)), Ward(MANY_LOTS, RING, large_device(rng))):
+            run = some_run(rng, ward, 40)
+            paper = self.quickly(people_paper, ward, run)
+            self.assertIs(self.quickly(people_holds, ward, run, paper), True)
+            self.quickly(can_make, ward, run, 6)
+            for many in (5, 6):
+                pairs = self.quickly(crowds_met, ward, many, most=HUGE)
+                self.quickly(crowds_behind, ward, pairs[-1])
+            pictures = pictures_of(ward, most=HUGE)
+            for picture in pictures[::11]:
+                self.quickly(run_for, ward, 6, picture)
+                for many in (2, 6):
+                    paper = self.quickly(judge_many, ward, many, picture)
+                    self.assertIs(self.quickly(many_holds, ward, many, picture, paper), True)
+                self.quickly(fewest_for, ward, picture)
+            self.quickly(enough, ward)
+
+    def test_one_standing_with_all_moves(self):
+        moves = tuple((0, at % 4, "abcde"[at % 5] * (at > 2), (0,), (), ()) for at in range(8))
+        ward = Ward(Book((0, 1, 2, -1), moves, (0,)), RING, counting_device("a", 6))
+        self.assertGreater(len(self.quickly(crowds_met, ward, 6)), 100)
+        run = (tuple(range(8)),) * 40
+        paper = self.quickly(people_paper, ward, run)
+        self.assertIs(self.quickly(people_holds, ward, run, paper), True)
+
+    def test_lots_and_logs(self):
+        rng = random.Random(202)
+        for book in (BUSY, MANY_LOTS):
+            ward = Ward(book, RING, large_device(rng))
+            self.assertGreater(len(self.quickly(stands_met, ward, most=1000)), 20)
+            self.quickly(first_log, ward, (0, 1, 2, 3), most=1000)
+            self.quickly(lambda: list(itertools.islice(logs_that_come(ward, 8), 200)))
+            paper = self.quickly(judge_alike, ward, ward.device, most=1000)
+            self.assertIs(self.quickly(alike_holds, ward, ward.device, paper), True)
+
+    def test_devices(self):
+        rng = random.Random(203)
+        for _ in range(5):
+            one, other = large_device(rng), large_device(rng)
+            self.quickly(parting_log, one, other)
+            least = self.quickly(least_device, one)
+            self.assertIs(self.quickly(are_alike, least, one), True)
+
+    def test_keepers(self):
+        for book, faces, harms in itertools.product((BUSY, MANY_LOTS), (THREE_FACES, RING), (OPEN_SHUT, ("bell",))):
+            paper = self.quickly(judge_keeping, book, faces, harms, most=100)
+            self.assertIs(self.quickly(keeping_holds, book, faces, harms, paper), True)
+            paper = self.quickly(ears_paper, book, faces, harms, most=HUGE)
+            self.assertIs(self.quickly(ears_paper_holds, book, faces, harms, paper), True)
+            paper = self.quickly(choices_paper, book, faces, harms, most=HUGE)
+            self.assertIs(self.quickly(choices_paper_holds, book, faces, harms, paper), True)
+
+    def test_all_bars(self):
+        self.assertEqual(self.quickly(fewest_bars, MANY_LOTS, RING, ("bell",), most=HUGE), ())
+        paper = self.quickly(bars_paper, MANY_LOTS, RING, ("bell",), most=HUGE)
+        self.assertEqual(len(paper[2]), 93)
+        self.assertIs(self.quickly(bars_paper_holds, MANY_LOTS, RING, ("bell",), paper), True)
+
+    def test_rounds_and_gaps(self):
+        for book, harms in itertools.product((BUSY, MANY_LOTS), ((), ("bell", "shut"))):
+            self.quickly(rounds_by_lot, book, THREE_FACES, harms=harms, most=100)
+            self.quickly(gap_for, book, THREE_FACES, harms=harms, most=100)
+            for number in (0, 1, 59, 60):
+                paper = self.quickly(judge_gap, book, THREE_FACES, number, harms=harms, most=100)
+                self.assertIs(self.quickly(gap_holds, book, THREE_FACES, number, harms, paper), True)
+            for number in (0, 3, 200):
+                paper = self.quickly(judge_rounds, book, THREE_FACES, number, harms=harms, most=100)
+                self.assertIs(self.quickly(rounds_hold, book, THREE_FACES, number, harms, paper), True)
+
+
+if __name__ == "__main__":
+    unittest.main()
