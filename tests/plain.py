@@ -86,6 +86,20 @@ def counting_device(letters, many, faces=1):
     return Device(shown, steps, tuple(range(many)))
 
 
+def some_leaving_book(rng):
+    """A small book in which people leave and come, so that an open house has to be armed in time."""
+    rooms = (0, -1, *rng.choice(((), (1,), (-1,), (0, -1))))
+    moves = []
+    for _ in range(rng.randint(2, 7)):
+        origin = rng.randrange(len(rooms))
+        looks = [(), ()]
+        if rng.random() < 0.25:
+            looks[rng.randrange(2)] = tuple({0, 1} - {rooms[origin]})[:1]
+        heard = rng.choice(("", "", "a", "b", "ab", "c"))
+        moves.append((origin, rng.randrange(len(rooms)), heard, rng.choice(((0, 1), (0, 1), (0,), (1,))), *looks))
+    return Book(rooms, tuple(moves), (rng.randrange(len(rooms)),))
+
+
 def told(thing):
     """A text of a value, objects by their texts, that tells apart what is equal but of another kind."""
     if isinstance(thing, (Book, Device, Guest, Ward)):

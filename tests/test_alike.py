@@ -117,6 +117,9 @@ class Alike(unittest.TestCase):
         one = Device((0, 1), ((0, "", 0), (0, "a", 0)), (1, 1))
         same = Device((0,), (), (0,))
         self.assertEqual(parting_log(one, same), ("ab",))
+        for many in range(1, 41):
+            one = Device((0, 1), tuple((0, heard, 0) for heard in first_strings(many)), (1, 1))
+            self.assertEqual(parting_log(one, same), (first_strings(many + 1)[-1],))
         one = Device((0, 1), tuple((0, heard, 0) for heard in first_strings(40)), (1, 1))
         self.assertEqual(parting_log(one, same), (first_strings(41)[-1],))
         self.assertEqual(parting_log(same, one), (first_strings(41)[-1],))
@@ -313,6 +316,11 @@ class Papers(unittest.TestCase):
         self.assertIs(alike_holds(WARD, BOTH, ("alike", tuple(sorted(paper[1] + (row,))))), False)
         row = ((), 1, 2)
         self.assertIs(alike_holds(WARD, BOTH, ("alike", tuple(sorted(paper[1] + (row,))))), False)
+        for row in ((((0,),), -1, 2), (((0,),), 1, -1), (((0,),), 2, 1), (((0,),), 1, 3), (((0, 3),), 1, 2), (((),), 1, 2)):
+            thing = ("alike", tuple(sorted(paper[1] + (row,))))
+            self.assertIs(alike_holds(WARD, BOTH, thing), False, row)
+            thing = ("alike", tuple(sorted({*paper[1], row, (((0,),), 1, 2), (((0,),), 1, 1)})))
+            self.assertIs(alike_holds(WARD, BOTH, thing), False, row)
         for at in range(len(paper[1])):
             thing = ("alike", paper[1][:at] + paper[1][at + 1 :])
             self.assertIs(alike_holds(WARD, BOTH, thing), is_plain_paper(WARD, BOTH, thing))

@@ -186,6 +186,17 @@ class Papers(unittest.TestCase):
             thing = ("no bar", number, refused)
             self.assertIs(bars_paper_holds(QUIET, FACES, OPEN_SHUT, thing), number == 0)
 
+    def test_kept_bars_of_several_numbers(self):
+        pairs = {bar: judge_keeping(without(QUIET, bar), FACES, OPEN_SHUT) for bar in bars_of(QUIET)}
+        for number in range(5):
+            rows = sorted(bar for bar in pairs if len(bar) <= number)
+            kept = tuple((bar, pairs[bar]) for bar in rows if pairs[bar][0] == "kept")
+            refused = tuple((bar, pairs[bar]) for bar in rows if pairs[bar][0] == "refused")
+            thing = ("barred", number, kept, refused)
+            self.assertIs(bars_paper_holds(QUIET, FACES, OPEN_SHUT, thing), number == 1)
+        for number in (-1, -(10**39)):
+            self.assertIs(bars_paper_holds(QUIET, FACES, OPEN_SHUT, ("no bar", number, ())), False)
+
     def test_parts_more_less_exchanged(self):
         paper = bars_paper(QUIET, FACES, OPEN_SHUT)
         _, number, kept, refused = paper

@@ -233,6 +233,13 @@ class Papers(unittest.TestCase):
         self.assertIs(choices_paper_holds(CLOCKED, FACES, OPEN_SHUT, ("choices", kept, refused), ears="b"), False)
         empty = (((), papers[0,]), *refused)
         self.assertIs(choices_paper_holds(CLOCKED, FACES, OPEN_SHUT, ("choices", kept, empty)), False)
+        for row in ((-1,), (True,), (1, 0), (0, 0)):
+            thing = ("choices", kept, tuple(sorted((*refused, (row, papers[1,])))))
+            self.assertIs(choices_paper_holds(CLOCKED, FACES, OPEN_SHUT, thing), False)
+            thing = ("choices", tuple(sorted((*kept, (row, papers[0, 1])))), refused)
+            self.assertIs(choices_paper_holds(CLOCKED, FACES, OPEN_SHUT, thing), False)
+        thing = ("choices", (((-1, 0, 1), papers[0, 1]), *kept), refused)
+        self.assertIs(choices_paper_holds(CLOCKED, FACES, OPEN_SHUT, thing), False)
         beyond = (*refused, ((1, 2), papers[1,]))
         self.assertIs(choices_paper_holds(CLOCKED, FACES, OPEN_SHUT, ("choices", kept, beyond)), False)
 

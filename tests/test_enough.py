@@ -95,6 +95,19 @@ class Runs(unittest.TestCase):
                 self.assertEqual([found] if len(found) <= 2 else [], first[:1])
                 self.assertTrue(plain_pairs_along(ward, found, many))
 
+    def test_crowds_that_begin_nearer_than_others(self):
+        # Who begins in the second standing has to come to the first one before going out of it.
+        ways = ((0, 0, ""), (0, 2, "x"), (1, 1, ""), (1, 3, ""), (3, 0, ""))
+        moves = tuple((*way, (0,), (), ()) for way in ways)
+        ward = Ward(Book((0, 1, -1, 2), moves, (0, 1)), ONE_FACE, counting_device("x", 3))
+        self.assertEqual(run_for(ward, 3, ((1, 2), 2)), ((0, 1, 2), (1, 2)))
+        for picture in (((2,), 2), ((1, 2), 2), ((0, 1, 2), 1), ((2,), 1)):
+            for many in (2, 3, 4):
+                found = run_for(ward, many, picture)
+                rows = [run for run, last in plain_runs(ward, 3) if last == picture]
+                rows = [run for run in rows if plain_pairs_along(ward, run, many)]
+                self.assertEqual([] if found is None else [found], rows[:1])
+
     def test_the_first_picture(self):
         for ward in (STREET_WARD, WARD, PAIR):
             first = (ward.book.first, 0)
@@ -146,6 +159,14 @@ class Judging(unittest.TestCase):
         self.assertGreater(len(rows), len(judge_many(COUNT, 1, ((0, 1), 0))[1]))
         self.assertIs(many_holds(COUNT, 1, ((0, 1), 0), ("closed", rows)), True)
         self.assertIs(many_holds(COUNT, 1, ((1,), 1), ("closed", rows)), False)
+
+    def test_pairs_just_outside_of_what_is_let(self):
+        rows = judge_many(STREET_WARD, 1, ((0, 1), 0))[1]
+        for row in (((0, 1), -1), ((0, 1), 1), ((0, 2), 0), ((-1, 2), 0), ((2, -1), 0), ((0, 0), 0), ((1,), 0), ((0, 0, 1), 0)):
+            thing = ("closed", tuple(sorted({*rows, row})))
+            self.assertIs(many_holds(STREET_WARD, 1, ((0, 1), 0), thing), False, row)
+        for rows in ((((0, 0), 0),), (((0, 1), 0),), (((), 0),), ((), 0)):
+            self.assertIs(many_holds(STREET_WARD, 0, ((0, 1), 0), ("closed", rows)), False)
 
     def test_another_run(self):
         for run in (((0, 1),), ((0,), (0, 1)), ((0, 1), (0,))):

@@ -40,6 +40,7 @@ from tests.plain import (
     plain_led,
     plain_lots_met,
     plain_stands,
+    some_leaving_book,
     told,
 )
 from tests.test_alike import all_devices
@@ -53,20 +54,6 @@ def with_ears(ward, ears):
     """The ward whose people are heard by these ears alone, as its device hears them."""
     moves = tuple((*move[:2], plain_cut(move[2], ears), *move[3:]) for move in ward.book.moves)
     return Ward(Book(ward.book.rooms, moves, ward.book.first), ward.faces, ward.device)
-
-
-def some_leaving_book(rng):
-    """A small book in which people leave and come, so that an open house has to be armed in time."""
-    rooms = (0, -1, *rng.choice(((), (1,), (-1,), (0, -1))))
-    moves = []
-    for _ in range(rng.randint(2, 7)):
-        origin = rng.randrange(len(rooms))
-        looks = [(), ()]
-        if rng.random() < 0.25:
-            looks[rng.randrange(2)] = tuple({0, 1} - {rooms[origin]})[:1]
-        heard = rng.choice(("", "", "a", "b", "ab", "c"))
-        moves.append((origin, rng.randrange(len(rooms)), heard, rng.choice(((0, 1), (0, 1), (0,), (1,))), *looks))
-    return Book(rooms, tuple(moves), (rng.randrange(len(rooms)),))
 
 
 def cases(many, seed, most=40):
@@ -316,6 +303,30 @@ class Papers(unittest.TestCase):
         self.assertIs(keeping_holds(STREET, ((False, True),), ("shut",), ("refused", rows)), False)
         self.assertIs(keeping_holds(STREET, FACES, ("shut",), ("refused", rows), choice=(1,)), True)
         self.assertIs(keeping_holds(STREET, FACES, ("shut",), ("refused", rows)), False)
+
+    def test_rows_just_outside_of_what_is_let(self):
+        device = Device((0, 0), (), (0, 0))
+        rows = rows_of_ward(Ward(HALL, FACES, device))
+        for row in ((rows[0][0], -1), (rows[0][0], 2), ((), 0), ((), 1), (((0,),), True), (((0, 3),), 0), (((),), 0)):
+            thing = ("kept", device, tuple(sorted({*rows, row})))
+            self.assertIs(keeping_holds(HALL, FACES, ("shut",), thing), False, row)
+        self.assertIs(keeping_holds(HALL, FACES, ("shut",), ("kept", device, rows)), True)
+        lot = ((0,),)
+        away = Book((-1,), ((0, 0, "a", (0, 1), (), ()),), (0,))
+        rows = ((lot, 0, "lost"), (lot, 0, "silent"))
+        self.assertIs(keeping_holds(away, ONE_FACE, ("open",), ("refused", rows)), True)
+        for row in (((), 0, "silent"), (lot, -1, "silent"), (lot, 0, "other"), (lot, 0, ""), (lot, 5, "silent lost")):
+            thing = ("refused", tuple(sorted({*rows, row})))
+            self.assertIs(keeping_holds(away, ONE_FACE, ("open",), thing), False, row)
+        rows = ((lot, -1, "lost"), (lot, -1, "silent"))
+        self.assertIs(keeping_holds(away, ONE_FACE, ("open",), ("refused", rows)), False)
+
+    def test_a_silent_row_of_a_lot_that_is_not_waiting(self):
+        within = Book((0,), (), (0,))
+        rows = ((((0,),), 3, "lost"), (((0,),), 3, "silent"))
+        self.assertIs(keeping_holds(within, ONE_FACE, ("open",), ("refused", rows)), False)
+        self.assertIs(keeping_holds(Book((-1,), (), (0,)), ONE_FACE, ("open",), ("refused", rows)), True)
+        self.assertIs(keeping_holds(Book((-1,), (), (0,)), ONE_FACE, (), ("refused", rows)), False)
 
     def test_one_row_more_or_less(self):
         for book, faces, harms, ears, choice in cases(25, 139, 15):

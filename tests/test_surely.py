@@ -47,6 +47,7 @@ from tests.plain import (
     plain_safe,
     plain_stands,
     plain_stays,
+    some_leaving_book,
     told,
 )
 
@@ -70,6 +71,10 @@ def cases(many, seed, most=14):
             yield book, FACES, harms
         yield book, ALL_SAFE, ()
         yield book, RINGS, ("bell",)
+    for _ in range(many):
+        book, faces = some_leaving_book(rng), rng.choice((FACES, ALL_SAFE, RINGS))
+        if plain_lots_met(book, (0, 1), None, most):
+            yield book, faces, rng.choice(((), *SOME_HARMS))
     for ward in some_wards(many, seed):
         faces = rng.choice((FACES, THREE_FACES, ALL_SAFE, RINGS))
         if plain_lots_met(ward.book, range(len(faces)), None, most):

@@ -239,6 +239,41 @@ class Gaps(unittest.TestCase):
         self.assertIs(gap_holds(TURNING, ALL_SAFE[:1], 1, (), ("breaks", rows)), False)
 
 
+class Outside(unittest.TestCase):
+    """Rows just outside of what is let, beside those that would do."""
+
+    def test_gaps(self):
+        rows = judge_gap(SLOW, ALL_SAFE, 3)[1]
+        self.assertIs(gap_holds(SLOW, ALL_SAFE, 3, (), ("stays", rows)), True)
+        for row in (
+            (((2,),), -1, 0), (((2,),), 4, 0), (((2,),), 0, 0), ((), 0, 0), ((), 0, 1), (((3,),), 1, 0), (((3,),), 0, 2),
+            (((3,),), 0, -1), (((2,),), 1, True), (((2,),), True, 0), (((4,),), 1, 0), (((),), 1, 0),
+        ):  # fmt: skip
+            thing = ("stays", tuple(sorted({*rows, row})))
+            self.assertIs(gap_holds(SLOW, ALL_SAFE, 3, (), thing), False, row)
+        rows = judge_gap(SLOW, ALL_SAFE, 2)[1]
+        self.assertIs(gap_holds(SLOW, ALL_SAFE, 2, (), ("breaks", rows)), True)
+        for row in ((((0,),), 3, 9), (((0,),), -1, 9), (((0,),), 0, 9), (((0,),), 1, -1), ((), 0, 9), (((3,),), 1, 9)):
+            thing = ("breaks", tuple(sorted({*rows, row})))
+            self.assertIs(gap_holds(SLOW, ALL_SAFE, 2, (), thing), False, row)
+
+    def test_rounds(self):
+        rows = judge_surely(SLOW, ALL_SAFE)[1]
+        for row in (((), 0, 1), (((3,),), 0, 1), (((2, 3),), 0, 0), (((2, 3),), -1, 1), (((2, 3),), 2, 1), (((4,),), 0, 1)):
+            thing = ("sure", tuple(sorted({*rows, row})))
+            self.assertIs(surely_holds(SLOW, ALL_SAFE, (), thing), False, row)
+        self.assertIs(surely_holds(SLOW, ALL_SAFE, (), ("sure", tuple(sorted({*rows, (((2, 3),), 0, 1)})))), True)
+        rows = judge_rounds(SLOW, ALL_SAFE, 2)[1]
+        for row in (((), 0), (((3,),), 0), (((2, 3),), -1), (((4,),), 0)):
+            thing = ("late", tuple(sorted({*rows, row})))
+            self.assertIs(rounds_hold(SLOW, ALL_SAFE, 2, (), thing), False, row)
+        self.assertIs(rounds_hold(SLOW, ALL_SAFE, 2, (), ("late", tuple(sorted({*rows, (((2, 3),), 0)})))), True)
+        lots = judge_surely(DOOR, ALL_SAFE[:1])[1]
+        for lot in ((), ((1,),), ((2,),), ((),)):
+            thing = ("never", tuple(sorted({*lots, lot})))
+            self.assertIs(surely_holds(DOOR, ALL_SAFE[:1], (), thing), False, lot)
+
+
 class AnyValue(unittest.TestCase):
     books = ((DOOR, ALL_SAFE, ()), (DOOR, RINGS, ("bell",)), (QUIET, FACES, ("shut",)), (SLOW, ALL_SAFE, ()),
              (TURNING, ALL_SAFE[:1], ()))  # fmt: skip

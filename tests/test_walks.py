@@ -8,7 +8,7 @@ from housewardens.books import Book
 from housewardens.devices import Device
 from housewardens.goings import do_make, steps_of
 from housewardens.walks import can_make, fewest_people, people_holds, people_paper
-from housewardens.wards import Ward
+from housewardens.wards import Ward, choices_in, tick
 from tests.helpers import (
     FACES,
     ONE_FACE,
@@ -95,13 +95,12 @@ class Fewest(unittest.TestCase):
                 self.assertIs(people_holds(ward, run, paper), True)
                 self.assertIs(can_make(ward, run, len(paper[1]) - 1), False)
 
-    def widest(self, ward, length):
-        """The run in which each open move is made."""
-        from housewardens.wards import choices_in, tick
-
+    def widest(self, ward, length, rng=None):
+        """The run in which each open move is made, or mostly so."""
         run, picture = (), (ward.book.first, 0)
         for _ in range(length):
-            choice = max(choices_in(ward, picture), key=len)
+            choices = choices_in(ward, picture)
+            choice = max(choices, key=len) if rng is None or rng.random() < 0.7 else rng.choice(choices)
             run += (choice,)
             _, picture = tick(ward, picture, choice)
         return run
@@ -113,6 +112,60 @@ class Fewest(unittest.TestCase):
         ward = Ward(Book((0, -1), moves, (0,)), ONE_FACE, Device((0,), (), (0,)))
         self.assertEqual(fewest_people(ward, (tuple(range(8)),) * 40), 281)
         self.assertIs(people_holds(ward, (tuple(range(8)),) * 40, people_paper(ward, (tuple(range(8)),) * 40)), True)
+
+
+    def test_people_who_have_to_be_shared_out(self):
+        # Two come from the second standing in any case: so they, not the one from the first, make two of the moves.
+        moves = (
+            (0, 0, "", (0,), (), ()), (1, 1, "", (0,), (), ()), (1, 1, "a", (0,), (), ()),
+            (0, 2, "", (1,), (), ()), (1, 2, "", (1,), (), ()),
+            (2, 3, "", (2,), (), ()), (2, 3, "a", (2,), (), ()), (2, 3, "b", (2,), (), ()),
+        )  # fmt: skip
+        book = Book((0, 1, 2, -1), moves, (0, 1))
+        ward = Ward(book, THREE_FACES, Device((0, 1, 2), (), (1, 2, 2)))
+        run = ((0, 1, 2), (3, 4), (5, 6, 7))
+        self.assertEqual(fewest_people(ward, run), 3)
+        self.assertIs(people_holds(ward, run, people_paper(ward, run)), True)
+        self.assertIs(is_plain_paper(ward, run, people_paper(ward, run)), True)
+
+    def test_against_rows_of_steps_one_behind_the_other(self):
+        rng = random.Random(65)
+        for _ in range(150):
+            ward = Ward(self.wide_book(rng), THREE_FACES, counting_device("a", 3, 3))
+            run = self.widest(ward, rng.randint(1, 25), rng)
+            fewest = plain_rows(ward, run)
+            self.assertEqual(fewest_people(ward, run), fewest)
+            paper = people_paper(ward, run)
+            self.assertEqual((len(paper[1]), len(paper[2])), (fewest, fewest))
+            self.assertIs(people_holds(ward, run, paper), True)
+
+    def wide_book(self, rng):
+        moves = []
+        for _ in range(8):
+            faces = rng.choice(((0, 1, 2), (0, 1), (1, 2), (0,), (2,)))
+            moves.append((rng.randrange(4), rng.randrange(4), rng.choice(("", "", "a", "b")), faces, (), ()))
+        return Book((0, 1, 2, -1), tuple(moves), tuple(sorted(rng.sample(range(4), rng.randint(1, 3)))))
+
+
+def plain_rows(ward, run):
+    """The least number of rows of steps one behind the other that have all steps: all less those with one behind."""
+    steps = plain_steps(ward, run)
+    targets = {step: step[1] if step[2] == -1 else ward.book.moves[step[2]][1] for step in steps}
+    behind = {}
+    for step in reversed(steps):
+        direct = [row for row in steps if row[0] == step[0] + 1 and row[1] == targets[step]]
+        behind[step] = set(direct).union(*[behind[row] for row in direct])
+    taken = {}
+
+    def find(step, seen):
+        for row in behind[step] - seen:
+            seen.add(row)
+            if row not in taken or find(taken[row], seen):
+                taken[row] = step
+                return True
+        return False
+
+    return len(steps) - sum(find(step, set()) for step in steps)
 
 
 class Papers(unittest.TestCase):
