@@ -8,6 +8,15 @@ def letters_among(heard, ears):
     return heard if ears is None else "".join([letter for letter in heard if letter in ears])
 
 
+def gathered(pairs):
+    """For each name of some pairs of a name and a target the tuple of its targets, both ascending."""
+    found = {}
+    for name, target in pairs:
+        targets = found.setdefault(name, {})
+        targets[target] = True
+    return tuple([(name, tuple(sorted(found[name]))) for name in sorted(found)])
+
+
 class House:
     """A book and ears; it keeps the answers that it worked out."""
 
@@ -27,12 +36,7 @@ class House:
     def answers_of(self, lot, face):
         """The pairs of what the ears hear and of the lot behind it, ascending."""
         if (lot, face) not in self._answers:
-            found = {}
-            for where in lot:
-                for heard, target in self.ways_from(where, face):
-                    wheres = found.setdefault(heard, {})
-                    wheres[target] = True
-            self._answers[lot, face] = tuple([(heard, tuple(sorted(found[heard]))) for heard in sorted(found)])
+            self._answers[lot, face] = gathered([pair for where in lot for pair in self.ways_from(where, face)])
         return self._answers[lot, face]
 
     def lot_behind(self, lot, face, heard):

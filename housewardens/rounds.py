@@ -32,6 +32,34 @@ def are_among(row, found):
     return all([thing in found for thing in row])
 
 
+def rounds_lost(things, rows_of):
+    """The rounds in which things are lost: those each of whose rows has a thing that was lost in an earlier one.
+
+    So what has no rows is lost in the round 0, and what has a row without things never is.
+    """
+    rows = {thing: rows_of(thing) for thing in things}
+    ahead = {thing: [] for thing in things}
+    for thing in things:
+        for row in rows[thing]:
+            for further in row:
+                ahead[further].append(thing)
+    found = {}
+    fresh = things
+    number = 0
+    while fresh:
+        fresh = [thing for thing in fresh if thing not in found and are_all_lost(rows[thing], found)]
+        for thing in fresh:
+            found[thing] = number
+        fresh = sorted({thing for further in fresh for thing in ahead[further]})
+        number += 1
+    return found
+
+
+def are_all_lost(rows, found):
+    """Whether each of some rows has a thing that is a key of a dict."""
+    return all([any([thing in found for thing in row]) for row in rows])
+
+
 class Rounds:
     """The lots that are met in a book, and the rounds in which they become sure."""
 

@@ -2,7 +2,7 @@
 
 from housewardens.kinds import do_ascend, is_between, is_number_from, is_tuple_of
 from housewardens.plays import Play
-from housewardens.rounds import Rounds, are_among, is_sure
+from housewardens.rounds import Rounds, are_among, is_sure, rounds_lost
 from housewardens.searches import all_met
 
 
@@ -151,37 +151,14 @@ def breaks_paper(play, gap):
     rows = {}
 
     def behind(node):
-        rows[node] = [nodes_behind(play, node, face) for face in play.safe(node[0])]
-        return [further for row in rows[node] for further in row if further[1] <= gap]
+        targets = [nodes_behind(play, node, face) for face in play.safe(node[0])]
+        # A face is lost at once by an answer with too great a span: so it is no row.
+        rows[node] = [row for row in targets if all([span <= gap for _, span in row])]
+        return [further for row in targets for further in row if further[1] <= gap]
 
     nodes = all_met([start] if start[1] <= gap else [], behind)
-    number = numbers_of_breaking(nodes, rows, gap)
+    number = rounds_lost(nodes, lambda node: rows[node])
     return "breaks", tuple(sorted([(*node, number[node]) for node in number]))
-
-
-def numbers_of_breaking(nodes, rows, gap):
-    """The rounds in which lots with spans break: in which each face has an answer that broke, or too great a span."""
-    ahead = {node: [] for node in nodes}
-    for node in nodes:
-        for row in rows[node]:
-            for further in row:
-                if further[1] <= gap:
-                    ahead[further].append(node)
-    found = {}
-    fresh = nodes
-    number = 0
-    while fresh:
-        fresh = [node for node in fresh if node not in found and do_all_break(rows[node], found, gap)]
-        for node in fresh:
-            found[node] = number
-        fresh = sorted({node for further in fresh for node in ahead[further]})
-        number += 1
-    return found
-
-
-def do_all_break(rows, found, gap):
-    """Whether each of some rows has a lot with too great a span, or one that broke."""
-    return all([any([node[1] > gap or node in found for node in row]) for row in rows])
 
 
 def gap_holds(book, faces, gap, harms, thing):

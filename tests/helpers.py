@@ -6,6 +6,8 @@ import random
 
 from housewardens.books import Book
 from housewardens.devices import Device
+from housewardens.guests import Guest
+from housewardens.onlookers import Onlooker
 from housewardens.wards import Ward
 
 HALL_MOVES = (
@@ -40,6 +42,7 @@ def wild_values():
         ((False, False),), [[False, False]], ("kept", ()), ("harm", (), "shut"), ("harm", (), "none"),
         ("people", (), ()), nested(12), [nested(11)], tuple(range(4999)), ("x" * 4000,),
         Book((0,), (), (0,)), Device((0,), (), (0,)), STREET_WARD, (STREET_WARD,), [WARD, {"b": HALL}],
+        Guest((-1,), ()), Onlooker("", (0,)), (Onlooker("a", (0, 1)), Guest((-1, 0), ())),
     ]  # fmt: skip
 
 

@@ -5,6 +5,7 @@ import itertools
 from housewardens.books import Book
 from housewardens.devices import Device
 from housewardens.guests import Guest
+from housewardens.onlookers import Onlooker
 from housewardens.wards import Ward
 from tests.helpers import FACES, exact, plain_choices, plain_led, plain_open, plain_tick, plain_ticks, plain_wheres
 
@@ -104,6 +105,8 @@ def told(thing):
     """A text of a value, objects by their texts, that tells apart what is equal but of another kind."""
     if isinstance(thing, (Book, Device, Guest, Ward)):
         return f"{thing.__class__.__name__}<{thing}>"
+    if isinstance(thing, Onlooker):
+        return f"Onlooker<{thing.letters!r}, {thing.classes}>"
     if isinstance(thing, (tuple, list)):
         return f"{thing.__class__.__name__}({','.join(told(part) for part in thing)})"
     if isinstance(thing, dict):

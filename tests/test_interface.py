@@ -7,9 +7,11 @@ import unittest
 from housewardens.books import Book
 from housewardens.devices import Device
 from housewardens.guests import Guest
+from housewardens.onlookers import Onlooker
 from housewardens.wards import Ward
 from tests import plain
 from tests.helpers import FACES, HALL, PLAIN, WARD, exact, variants, wild_values
+from tests.plain_guests import BELLS, CALM, LOUD_GUEST
 
 FUNCTIONS = {
     "books": (
@@ -143,6 +145,39 @@ FUNCTIONS = {
         "guest_moves(guest, standing, face)",
         "guest_goes(guest, standing, move)",
     ),
+    "visits": (
+        "first_case(book)",
+        "is_case(book, guest, thing)",
+        "cases_after(book, guest, cases, face, heard)",
+        "case_answers(book, guest, cases, face)",
+        "cases_behind(ward, guest, log)",
+        "is_visit(ward, guest, thing)",
+        "sights_along(ward, guest, visit)",
+        "visit_log(ward, guest, visit)",
+    ),
+    "catching": (
+        "does_catch(ward, guest, ticks, *, most=300)",
+        "judge_catching(ward, guest, ticks, *, most=300)",
+        "catching_holds(ward, guest, ticks, thing)",
+        "least_ticks(ward, guest, ticks, *, most=300)",
+        "doubt_of(ward, guest, ticks, *, most=60)",
+        "doubt_holds(ward, guest, ticks, thing)",
+    ),
+    "catchers": (
+        "can_catch(book, faces, guest, ticks, *, most=60)",
+        "judge_guest(book, faces, guest, ticks, *, most=60)",
+        "guest_holds(book, faces, guest, ticks, thing)",
+        "catcher_of(book, faces, guest, ticks, *, most=60)",
+        "least_catch(book, faces, guest, ticks, *, most=60)",
+    ),
+    "sights": (
+        "notes_of(ward, onlooker, run)",
+        "do_look_alike(ward, onlooker, run, further)",
+        "possible_pictures(ward, onlooker, run)",
+        "knows_empty(ward, onlooker, run)",
+        "knows_somebody(ward, onlooker, run)",
+        "possible_crowds(ward, onlooker, run, many)",
+    ),
 }
 
 METHODS = {
@@ -174,6 +209,12 @@ METHODS = {
         "Guest.__eq__(self, other)",
         "Guest.__str__(self)",
         "Guest.read(text)",
+    ),
+    "onlookers": (
+        "Onlooker.__init__(self, letters, classes)",
+        "Onlooker.__eq__(self, other)",
+        "Onlooker.__or__(self, other)",
+        "Onlooker.sees_all_of(self, other)",
     ),
 }
 
@@ -213,6 +254,10 @@ VALUES = {
     "guest": Guest((-1, 3), ((0, 1, "a", (0,)),)),
     "standing": 0,
     "move": -1,
+    "cases": (((1,), 0, 0), ((1, 2), 1, 3)),
+    "visit": (((0, 1), 0), ((1,), -1)),
+    "ticks": 2,
+    "onlooker": Onlooker("a", (3, 1)),
 }
 # What these take of another kind than the others do.
 OTHERS = {
@@ -222,6 +267,8 @@ OTHERS = {
     "keeppapers": {"choice": (0,)},
     "plays": {"choice": (0,)},
     "ears": {"choice": (0,)},
+    "catchers": {"guest": LOUD_GUEST, "faces": BELLS, "book": CALM},
+    "sights": {"further": ((1,),)},
 }
 
 
@@ -249,7 +296,7 @@ def plain_papers():
     """Values like papers of all kinds, with parts of other kinds."""
     rows = ((((0,),), 0, "lost"), (((0,), (1,)), 1, 0), (((0,),), 0), ((0,),), (((0,),), 0, 0), ("", ()), ((0,), ()))
     words = ("kept", "refused", "sure", "late", "never", "stays", "breaks", "alike", "parted", "closed", "run", "people")
-    for word in (*words, "ears", "choices", "barred", "no bar"):
+    for word in (*words, "ears", "choices", "barred", "no bar", "catches", "early", "caught", "unheard", "learns"):
         yield from ((word,), (word, ()), (word, (), ()), (word, 0, (), ()), (word, 0, ()), (word, PLAIN, ()), [word, ()])
         for row in rows:
             yield from ((word, (row,)), (word, PLAIN, (row,)), (word, (row, row)), (word, (row,), (row,)))

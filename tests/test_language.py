@@ -27,6 +27,7 @@ METHODS = set(
     "setdefault split splitlines startswith strip update upper values zfill bit_length removeprefix removesuffix "
     "isascii add discard".split()
 )
+CHANGING = set("append clear extend insert pop remove reverse setdefault sort update add discard".split())
 SPECIAL = {"__init__", "__eq__", "__str__", "__repr__", "__len__", "__or__"}
 BARRED = (
     ast.GeneratorExp, ast.YieldFrom, ast.Global, ast.AsyncFunctionDef, ast.Await, ast.Import, ast.Div,
@@ -179,6 +180,39 @@ class Language(unittest.TestCase):
             for node in ast.walk(tree):
                 if isinstance(node, ast.BinOp) and isinstance(node.op, ast.Pow):
                     self.fail((path, node.lineno))
+
+    def test_operators_and_the_like_change_nothing(self):
+        for path, name, node in self.run_by_operators():
+            for row in ast.walk(node):
+                self.assertNotIsInstance(row, (ast.AugAssign, ast.Delete, ast.NamedExpr), (path, name))
+                if isinstance(row, ast.Assign):
+                    self.assertTrue(all(isinstance(target, (ast.Name, ast.Tuple)) for target in row.targets), (path, name))
+                if isinstance(row, ast.Call) and isinstance(row.func, ast.Attribute):
+                    self.assertNotIn(row.func.attr, CHANGING, (path, name))
+
+    def run_by_operators(self):
+        """All functions and methods, but for __init__, that an operator or the like, or a property, may run."""
+        made = {}
+        fresh = []
+        for path, tree in trees():
+            for node in ast.walk(tree):
+                if isinstance(node, ast.FunctionDef):
+                    made.setdefault(node.name, []).append((path, node.name, node))
+                    marks = [row.id for row in node.decorator_list]
+                    if node.name.startswith("__") and node.name != "__init__" or "property" in marks:
+                        fresh.append((path, node.name, node))
+        found = []
+        while fresh:
+            found += fresh
+            names = {
+                getattr(row.func, "id", getattr(row.func, "attr", None))
+                for _, _, node in fresh
+                for row in ast.walk(node)
+                if isinstance(row, ast.Call)
+            }
+            fresh = [row for name in names for row in made.get(name, []) if row not in found]
+        self.assertGreater(len(found), 10)
+        return found
 
     def test_methods_and_attributes_of_a_class_have_unlike_names(self):
         for path, tree in trees():

@@ -7,21 +7,29 @@ import unittest
 
 from housewardens.alike import alike_holds, are_alike, judge_alike, least_device, parting_log
 from housewardens.bars import bars_paper, bars_paper_holds, fewest_bars
-from housewardens.books import Book
+from housewardens.books import Book, choices
+from housewardens.catchers import guest_holds, judge_guest, least_catch
+from housewardens.catching import catching_holds, doubt_holds, doubt_of, judge_catching, least_ticks
 from housewardens.crowds import crowds_behind, crowds_met
 from housewardens.devices import Device
 from housewardens.ears import choices_paper, choices_paper_holds, ears_paper, ears_paper_holds
 from housewardens.enough import enough, fewest_for, judge_many, many_holds, run_for
+from housewardens.errors import TooMany
+from housewardens.guests import Guest, guest_moves
 from housewardens.keepers import judge_keeping
 from housewardens.keeppapers import keeping_holds
 from housewardens.logs import first_log, logs_that_come
 from housewardens.lots import stands_met
+from housewardens.onlookers import Onlooker
+from housewardens.sights import do_look_alike, possible_crowds, possible_pictures
 from housewardens.surely import gap_for, rounds_by_lot
 from housewardens.surepapers import gap_holds, judge_gap, judge_rounds, rounds_hold
+from housewardens.visits import cases_behind, is_visit, sights_along, visit_log
 from housewardens.walks import can_make, people_holds, people_paper
 from housewardens.wards import Ward, pictures_of
 from tests.helpers import HUGE, some_run
 from tests.plain import BUSY, OPEN_SHUT, THREE_FACES, counting_device
+from tests.plain_guests import BELLS, CALM, LOUD_GUEST, THIEF
 
 # Far more than a call takes here: so that a slow machine does not fail, and a search without end does.
 SECONDS = 6
@@ -39,6 +47,28 @@ MANY_LOTS = Book(
         (3, 1, "c", (0, 2), (), ()),
     ),
     (0,),
+)
+BUSY_HOUSE = Book(
+    (0, 1, -1),
+    (
+        (0, 0, "", (0, 1, 2), (), ()),
+        (0, 1, "a", (0, 1), (), ()),
+        (1, 2, "b", (0, 2), (), ()),
+        (1, 1, "", (0, 1, 2), (), ()),
+        (2, 2, "ab", (0, 1, 2), (), ()),
+        (2, 0, "", (1, 2), (), ()),
+    ),
+    (0, 1, 2),
+)
+BUSY_GUEST = Guest(
+    (-1, 0, 5),
+    (
+        (0, 1, "a", (0, 1, 2)),
+        (1, 2, "", (0, 1, 2)),
+        (2, 1, "b", (0, 1, 2)),
+        (2, 2, "", (0, 2)),
+        (1, 0, "g", (1, 2)),
+    ),
 )
 
 
@@ -127,6 +157,56 @@ class Speed(unittest.TestCase):
             for number in (0, 3, 200):
                 paper = self.quickly(judge_rounds, book, THREE_FACES, number, harms=harms, most=100)
                 self.assertIs(self.quickly(rounds_hold, book, THREE_FACES, number, harms, paper), True)
+
+    def test_guests(self):
+        for book, guest in ((CALM, THIEF), (BUSY_HOUSE, BUSY_GUEST), (BUSY_HOUSE, LOUD_GUEST)):
+            for faces, ticks in itertools.product((BELLS, THREE_FACES), (1, 3, 6)):
+                paper = self.quickly(self.quietly, judge_guest, book, faces, guest, ticks, most=1000)
+                if paper is not None:
+                    self.assertIs(self.quickly(guest_holds, book, faces, guest, ticks, paper), True)
+                for device in (counting_device("a", 6, 2), counting_device("ag", 6, 3), Device((0,), (), (0,))):
+                    ward = Ward(book, faces, device)
+                    paper = self.quickly(judge_catching, ward, guest, ticks, most=HUGE)
+                    self.assertIs(self.quickly(catching_holds, ward, guest, ticks, paper), True)
+                    self.quickly(least_ticks, ward, guest, ticks, most=HUGE)
+                    self.quickly(self.quietly, doubt_of, ward, guest, ticks, most=1000)
+            self.quickly(self.quietly, least_catch, book, BELLS, guest, 6, most=1000)
+
+    def quietly(self, call, *values, **more):
+        """What a call returns, None if it raises TooMany."""
+        try:
+            return call(*values, **more)
+        except TooMany:
+            return None
+
+    def test_visits(self):
+        ward = Ward(BUSY_HOUSE, BELLS, counting_device("a", 6, 3))
+        visit = self.long_visit(random.Random(204), ward, BUSY_GUEST, 40)
+        self.assertIs(self.quickly(is_visit, ward, BUSY_GUEST, visit), True)
+        log = self.quickly(visit_log, ward, BUSY_GUEST, visit)
+        self.assertEqual(len(log), 40)
+        self.assertTrue(self.quickly(cases_behind, ward, BUSY_GUEST, log))
+        self.assertIs(self.quickly(doubt_holds, ward, BUSY_GUEST, 1, (visit, visit)), False)
+        self.quickly(cases_behind, ward, BUSY_GUEST, ("a",) * 60)
+
+    def long_visit(self, rng, ward, guest, length):
+        visit = ()
+        for _ in range(length):
+            case, state = sights_along(ward, guest, visit)[-1]
+            face = ward.device.shown[state]
+            choice = rng.choice(choices(ward.book, case[0], face))
+            visit += ((choice, rng.choice(guest_moves(guest, case[1], face))),)
+        return visit
+
+    def test_sights(self):
+        rng = random.Random(205)
+        for book in (BUSY, MANY_LOTS):
+            ward = Ward(book, RING, large_device(rng))
+            run = some_run(rng, ward, 40)
+            for onlooker in (Onlooker("", (0, 0, 0)), Onlooker("a", (0, 0, 1)), Onlooker("abcde", (0, 1, 2))):
+                self.quickly(possible_pictures, ward, onlooker, run)
+                self.quickly(possible_crowds, ward, onlooker, run, 6)
+                self.assertIs(self.quickly(do_look_alike, ward, onlooker, run, run), True)
 
 
 if __name__ == "__main__":
