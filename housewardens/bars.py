@@ -83,7 +83,19 @@ def are_all_bars(book, number, kept, refused):
 
     if not is_number_from(number, 0) or not are_pairs(kept, is_row) or not are_pairs(refused, is_row):
         return False
-    if not all([len(bar) == number for bar, _ in kept]):
+    bars = [bar for bar, _ in kept + refused]
+    if not all([len(bar) == number for bar, _ in kept]) or not all([len(bar) <= number for bar in bars]):
         return False
-    rows = [bar for many in numbers_up_to(book, number) for bar in bars_with(book, many)]
-    return sorted([bar for bar, _ in kept + refused]) == sorted(rows)
+    # So many unlike ones are all of them; they are counted, as there may be far more than a paper has.
+    many = many_bars(len(book.moves), number)
+    return len(bars) == many and len(set(bars)) == many
+
+
+def many_bars(moves, number):
+    """How many bars of at most a number of moves there are in a book with so many moves."""
+    found = 0
+    many = 1
+    for parts in range(min(number, moves) + 1):
+        found += many
+        many = many * (moves - parts) // (parts + 1)
+    return found

@@ -6,10 +6,14 @@ from housewardens.keeppapers import keeping_holds
 from housewardens.kinds import are_ascending, do_ascend, is_tuple_of
 
 
+def letters_of(book):
+    """The letters that a book has in its moves, ascending."""
+    return sorted({letter for move in book.moves for letter in move[2]})
+
+
 def all_ears(book):
     """All ascending strings of letters that the book has in its moves, ascending."""
-    letters = sorted({letter for move in book.moves for letter in move[2]})
-    return sorted(["".join(row) for row in [()] + parts_of(letters)])
+    return sorted(["".join(row) for row in [()] + parts_of(letters_of(book))])
 
 
 def all_choices(faces):
@@ -73,27 +77,34 @@ def ears_paper_holds(book, faces, harms, thing, *, choice=None):
     def holds(ears, paper):
         return keeping_holds(book, faces, harms, paper, ears=ears, choice=choice)
 
-    return does_paper_hold("ears", is_heard, holds, all_ears(book), thing)
+    return does_paper_hold("ears", is_heard, holds, [([], letters_of(book))], thing)
 
 
 def choices_paper_holds(book, faces, harms, thing, *, ears=None):
     """Whether any value is a paper that tells with which choices of faces some device keeps."""
 
     def is_choice(row):
-        return are_ascending(row, 0, len(faces) - 1) and len(row) > 0
+        return is_choice_of(faces, row)
 
     def holds(choice, paper):
         return keeping_holds(book, faces, harms, paper, ears=ears, choice=choice)
 
-    return does_paper_hold("choices", is_choice, holds, all_choices(faces), thing)
+    # By the first face of a choice, as none is empty.
+    numbers = list(range(len(faces)))
+    return does_paper_hold("choices", is_choice, holds, [([at], numbers[at + 1 :]) for at in numbers], thing)
 
 
-def does_paper_hold(word, is_row, holds, rows, thing):
+def is_choice_of(faces, thing):
+    """Whether any value is a choice of some faces."""
+    return are_ascending(thing, 0, len(faces) - 1) and len(thing) > 0
+
+
+def does_paper_hold(word, is_row, holds, starts, thing):
     """Whether any value is this word with kept and refused pairs of papers that hold, which tell of all rows."""
     if not is_tuple_of(thing, 3) or thing[0] != word:
         return False
     _, kept, refused = thing
-    if not are_pairs(kept, is_row) or not are_pairs(refused, is_row) or not are_all_told(rows, kept, refused):
+    if not are_pairs(kept, is_row) or not are_pairs(refused, is_row) or not are_all_told(starts, kept, refused):
         return False
     return do_papers_hold(kept, "kept", holds) and do_papers_hold(refused, "refused", holds)
 
@@ -110,11 +121,17 @@ def do_papers_hold(pairs, word, holds):
     return all([isinstance(paper, tuple) and paper[:1] == (word,) and holds(row, paper) for row, paper in pairs])
 
 
-def are_all_told(rows, kept, refused):
-    """Whether each of some rows has one that is kept within, or is within one that is refused."""
-    return all(
-        [
-            any([is_within(part, row) for part, _ in kept]) or any([is_within(row, whole) for whole, _ in refused])
-            for row in rows
-        ]
-    )
+def are_all_told(starts, kept, refused):
+    """Whether each row of some starts has one that is kept within, or is within one that is refused.
+
+    A start is some items and some more: all rows that have the former and any of the latter.
+    """
+    left = list(starts)
+    while left:
+        some, more = left.pop()
+        if any([is_within(row, some) for row, _ in kept]) or any([is_within(some + more, row) for row, _ in refused]):
+            continue
+        if not more:
+            return False
+        left += [(some, more[1:]), (some + more[:1], more[1:])]
+    return True

@@ -5,6 +5,9 @@ STAYS = -1
 GREATEST_ROOM = 9
 GREATEST_FACE = 99
 LETTERS = "abcdefghijklmnopqrstuvwxyz"
+HARMS = ("bell", "open", "shut")
+SURE_HARMS = ("bell", "shut")
+LONGEST_NAME = 8
 
 
 def is_integer(thing):
@@ -50,3 +53,15 @@ def are_letters(thing):
 def is_tuple_of(thing, many):
     """Whether any value is a tuple with so many parts."""
     return isinstance(thing, tuple) and len(thing) == many
+
+
+def is_name(thing):
+    """Whether any value is a name: a string of one to eight letters from a to z."""
+    if not isinstance(thing, str) or not all(["a" <= letter <= "z" for letter in thing]):
+        return False
+    return 1 <= len(thing) <= LONGEST_NAME
+
+
+def are_harms(thing, words):
+    """Whether any value is an ascending tuple, perhaps empty, of some words."""
+    return isinstance(thing, tuple) and all([word in words for word in thing]) and do_ascend(thing)

@@ -6,6 +6,8 @@ from housewardens.errors import OtherFaces
 from housewardens.houses import gathered, letters_among
 from housewardens.wards import along, face_in, first_picture, log_of
 
+TOLD_WORDS = ("empty", "somebody")
+
 
 class Watch:
     """A ward and an onlooker; it keeps what can be noted. Raises OtherFaces() if both have not as many faces."""
