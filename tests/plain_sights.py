@@ -137,6 +137,7 @@ def is_plain_learned(ward, onlooker, word, thing):
             return False
         if not do_ascend(lot) or len({plain_class(ward, onlooker, picture) for picture in lot}) > 1:
             return False
+    for lot in thing[1]:
         if plain_knows(ward, word, lot) or not plain_lots_on(ward, onlooker, lot) <= set(thing[1]):
             return False
     return do_ascend(thing[1]) and ((ward.book.first, 0),) in thing[1]

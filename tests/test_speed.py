@@ -10,14 +10,18 @@ from housewardens.bars import bars_paper, bars_paper_holds, fewest_bars
 from housewardens.books import Book, choices
 from housewardens.catchers import guest_holds, judge_guest, least_catch
 from housewardens.catching import catching_holds, doubt_holds, doubt_of, judge_catching, least_ticks
+from housewardens.console import Console
 from housewardens.crowds import crowds_behind, crowds_met
+from housewardens.days import day_holds, judge_day, people_of_log, run_of_log
 from housewardens.devices import Device
 from housewardens.ears import choices_paper, choices_paper_holds, ears_paper, ears_paper_holds
 from housewardens.enough import enough, fewest_for, judge_many, many_holds, run_for
 from housewardens.errors import TooMany
+from housewardens.findings import finding_holds, told_by_texts
 from housewardens.guests import Guest, guest_moves
 from housewardens.keepers import judge_keeping
 from housewardens.keeppapers import keeping_holds
+from housewardens.learning import judge_learned, learned_holds
 from housewardens.logs import first_log, logs_that_come
 from housewardens.lots import stands_met
 from housewardens.onlookers import Onlooker
@@ -26,7 +30,7 @@ from housewardens.surely import gap_for, rounds_by_lot
 from housewardens.surepapers import gap_holds, judge_gap, judge_rounds, rounds_hold
 from housewardens.visits import cases_behind, is_visit, sights_along, visit_log
 from housewardens.walks import can_make, people_holds, people_paper
-from housewardens.wards import Ward, pictures_of
+from housewardens.wards import Ward, along, log_of, pictures_of
 from tests.helpers import HUGE, some_run
 from tests.plain import BUSY, OPEN_SHUT, THREE_FACES, counting_device
 from tests.plain_guests import BELLS, CALM, LOUD_GUEST, THIEF
@@ -207,6 +211,58 @@ class Speed(unittest.TestCase):
                 self.quickly(possible_pictures, ward, onlooker, run)
                 self.quickly(possible_crowds, ward, onlooker, run, 6)
                 self.assertIs(self.quickly(do_look_alike, ward, onlooker, run, run), True)
+
+    def test_learning(self):
+        rng = random.Random(206)
+        for book, device in itertools.product((BUSY, MANY_LOTS), (large_device(rng), counting_device("a", 6, 3))):
+            ward = Ward(book, RING, device)
+            for letters, classes in (("", (0, 0, 0)), ("a", (0, 1, 0)), ("abc", (0, 1, 2))):
+                onlooker = Onlooker(letters, classes)
+                for word in ("empty", "somebody"):
+                    paper = self.quickly(self.quietly, judge_learned, ward, onlooker, word, most=200)
+                    if paper is not None:
+                        self.assertIs(self.quickly(learned_holds, ward, onlooker, word, paper), True)
+
+    def test_days(self):
+        rng = random.Random(207)
+        for book in (BUSY, MANY_LOTS):
+            ward = Ward(book, RING, large_device(rng))
+            run = some_run(rng, ward, 60)
+            log = log_of(ward, run)
+            self.assertLessEqual(self.quickly(run_of_log, ward, log, along(ward, run)[-1][0]), run)
+            for some in (log, log[:20], log[:19] + ("z",)):
+                self.quickly(people_of_log, ward, some)
+                paper = self.quickly(judge_day, ward, some, 6)
+                self.assertIs(self.quickly(day_holds, ward, some, 6, paper), True)
+                finding = told_by_texts(("day", ward, some, 6, paper))
+                self.assertIs(self.quickly(finding_holds, finding), True)
+
+    def test_findings(self):
+        paper = bars_paper(MANY_LOTS, RING, ("bell",), most=HUGE)
+        finding = told_by_texts(("bars", MANY_LOTS, RING, ("bell",), paper))
+        self.assertIs(self.quickly(finding_holds, finding), True)
+        paper = ears_paper(BUSY, THREE_FACES, OPEN_SHUT, most=HUGE)
+        finding = self.quickly(told_by_texts, ("ears", BUSY, THREE_FACES, OPEN_SHUT, None, paper))
+        self.assertIs(self.quickly(finding_holds, finding), True)
+
+    def test_office_and_console(self):
+        rng = random.Random(208)
+        console = Console()
+        wards = [Ward(book, RING, large_device(rng)) for book in (BUSY, MANY_LOTS, BUSY, MANY_LOTS, BUSY)]
+        for name, ward in zip("abcde", wards):
+            text = str(ward).replace("\n", ";")
+            self.assertEqual(self.quickly(console.say, f"open {name} {text}"), "ok")
+            for heard in log_of(ward, some_run(rng, ward, 38)):
+                self.assertEqual(self.quickly(console.say, f"hear {name} {heard or '-'}"), "ok")
+            self.quickly(console.office.renew, name, ward.device, most=HUGE)
+        self.assertEqual(len(console.office), 200)
+        for command in ("people a", "lot a", "log a", "face a", "keeps a bell,shut", "can b bell", "sure b -", "gap b shut",
+                        "ears a open,shut", "ears b bell", "bars a open,shut", "bars b bell", "learn a ab empty"):  # fmt: skip
+            self.quickly(self.quietly, console.say, command)
+        for _ in range(200):
+            self.quickly(console.office.undo)
+        for _ in range(200):
+            self.quickly(console.office.redo)
 
 
 if __name__ == "__main__":
