@@ -2,7 +2,7 @@
 
 from housewardens.kinds import do_ascend, is_tuple_of
 from housewardens.searches import all_met, check_many, first_ways
-from housewardens.visits import Stay, first_case, first_sight, is_sight, is_visit, sights_along, visit_log
+from housewardens.visits import Stay, first_case, first_sight, is_sight, is_visit, sights_along, visit_along, visit_log
 
 
 def does_ring(ward, sight):
@@ -21,16 +21,12 @@ def is_late(ward, ticks, sight):
 
 
 def leads_within(ward, stay, ticks, sight):
-    """What is made in a sight, each with the sight behind it; nothing in one that rings, or has so many ticks."""
+    """What is heard in a sight and the place behind it, with that sight; none if it rings, or has so many ticks."""
     case, state = sight
     if does_ring(ward, sight) or case[2] >= ticks:
         return []
-    face = ward.device.shown[state]
-    return [
-        (made, (target, ward.device.led(state, heard)))
-        for heard in stay.strings(case, face)
-        for target, made in stay.cases_led_to(case, face, heard)
-    ]
+    pairs = stay.leads(case, ward.device.shown[state])
+    return [((heard, target[:2]), (target, ward.device.led(state, heard))) for heard, target in pairs]
 
 
 def sights_met(ward, guest, ticks, most):
@@ -65,8 +61,9 @@ def judge_catching(ward, guest, ticks, *, most=300):
     if not early and not late:
         return "catches", tuple(sorted(sights))
     stay = Stay(ward.book, guest)
-    visits = first_ways(first_sight(ward), lambda sight: leads_within(ward, stay, ticks, sight))
-    return ("early", visits[early[0]]) if early else ("late", visits[late[0]])
+    steps = first_ways(first_sight(ward), lambda sight: leads_within(ward, stay, ticks, sight))
+    visit = visit_along(ward, guest, steps[(early + late)[0]])
+    return ("early", visit) if early else ("late", visit)
 
 
 def catching_holds(ward, guest, ticks, thing):
@@ -139,17 +136,14 @@ def visit_to(ward, stay, log, case):
     ways = [{first_case(ward.book): None}]
     state = 0
     for heard in log:
-        found = {}
-        for some in ways[-1]:
-            for target, made in stay.cases_led_to(some, ward.device.shown[state], heard):
-                found[target] = (some, made)
-        ways.append(found)
+        face = ward.device.shown[state]
+        ways.append({target: some for some in ways[-1] for target in stay.cases_led_to(some, face, heard)})
         state = ward.device.led(state, heard)
-    visit = []
-    for found in ways[:0:-1]:
-        case, made = found[case]
-        visit.append(made)
-    return tuple(visit[::-1])
+    steps = []
+    for at in range(len(log) - 1, -1, -1):
+        steps.append((log[at], case[:2]))
+        case = ways[at + 1][case]
+    return visit_along(ward, stay.guest, steps[::-1])
 
 
 def doubt_holds(ward, guest, ticks, thing):

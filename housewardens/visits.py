@@ -1,6 +1,6 @@
 """Visits: the goings of people and of a guest together, and the cases that a log leaves open."""
 
-from housewardens.books import heard_of, is_choice, is_where, letters_once, ways_on, where_behind
+from housewardens.books import choices, heard_of, is_choice, is_where, letters_once, outcomes, where_behind
 from housewardens.guests import guest_goes, guest_moves
 from housewardens.houses import gathered
 from housewardens.kinds import AWAY, do_ascend, is_between, is_integer, is_number_from, is_tuple_of
@@ -22,25 +22,14 @@ class Stay:
         self._answers = {}
 
     def places(self, where, standing, face):
-        """By what is heard the places, of people and of the guest, to which a tick leads, and what is made for each."""
+        """By what is heard the places, of people and of the guest, to which a tick leads."""
         key = (where, standing, face)
         if key not in self._places:
-            self._places[key] = self.all_places(where, standing, face)
+            goings = [guest_goes(self.guest, standing, move) for move in guest_moves(self.guest, standing, face)]
+            rows = [(*pair, *going) for pair in outcomes(self.book, where, face) for going in goings]
+            pairs = gathered([(letters_once(heard + further), (target, goal)) for heard, target, further, goal in rows])
+            self._places[key] = {heard: places for heard, places in pairs}
         return self._places[key]
-
-    def all_places(self, where, standing, face):
-        """The same, worked out; of all that can be made for one place the first is kept."""
-        goings = [(move, *guest_goes(self.guest, standing, move)) for move in guest_moves(self.guest, standing, face)]
-        found = {}
-        for choice, heard, target in ways_on(self.book, where, face):
-            for move, further, goal in goings:
-                made = found.setdefault(letters_once(heard + further), {})
-                made.setdefault((target, goal), (choice, move))
-        return found
-
-    def strings(self, case, face):
-        """All that can be heard in a case at a face."""
-        return list(self.places(case[0], case[1], face))
 
     def case_in(self, place, ticks):
         """The case in a place to which a tick leads from a case with so many ticks."""
@@ -48,15 +37,14 @@ class Stay:
         return (*place, ticks if self.greatest is None else min(ticks, self.greatest))
 
     def cases_led_to(self, case, face, heard):
-        """The cases to which ticks lead from a case at a face if just this is heard, each with what is made."""
+        """The cases to which ticks lead from a case at a face if just this is heard."""
         where, standing, ticks = case
-        made = self.places(where, standing, face).get(heard, {})
-        return [(self.case_in(place, ticks), made[place]) for place in made]
+        return [self.case_in(place, ticks) for place in self.places(where, standing, face).get(heard, ())]
 
     def leads(self, case, face):
         """All pairs of what can be heard in a case at a face and of a case behind it."""
-        strings = self.strings(case, face)
-        return [(heard, target) for heard in strings for target, _ in self.cases_led_to(case, face, heard)]
+        strings = list(self.places(case[0], case[1], face))
+        return [(heard, target) for heard in strings for target in self.cases_led_to(case, face, heard)]
 
     def answers_of(self, cases, face):
         """The pairs of what can be heard in some cases at a face and of the lot of cases behind it, ascending."""
@@ -66,7 +54,7 @@ class Stay:
 
     def lot_behind(self, cases, face, heard):
         """The lot of cases behind some cases at a face if just this is heard, the empty one if it cannot be."""
-        return tuple(sorted({target for case in cases for target, _ in self.cases_led_to(case, face, heard)}))
+        return tuple(sorted({target for case in cases for target in self.cases_led_to(case, face, heard)}))
 
 
 def first_case(book):
@@ -166,3 +154,26 @@ def visit_log(ward, guest, visit):
     """What is heard in a visit, tick by tick."""
     sights = sights_along(ward, guest, visit)
     return tuple([goes(ward, guest, sight, made)[0] for sight, made in zip(sights, visit)])
+
+
+def visit_along(ward, guest, steps):
+    """A visit in which this is heard, tick by tick, and these places are come to; steps are pairs of both."""
+    sight = first_sight(ward)
+    visit = []
+    for step in steps:
+        made, sight = first_made(ward, guest, sight, step)
+        visit.append(made)
+    return tuple(visit)
+
+
+def first_made(ward, guest, sight, step):
+    """What is made in a sight so that this is heard and leads to this place, and the sight behind it."""
+    heard, place = step
+    (where, standing, _), state = sight
+    face = ward.device.shown[state]
+    moves = guest_moves(guest, standing, face)
+    for made in [(choice, move) for choice in choices(ward.book, where, face) for move in moves]:
+        letters, further = goes(ward, guest, sight, made)
+        if letters == heard and further[0][:2] == place:
+            return made, further
+    return None
