@@ -86,9 +86,8 @@ def are_all_bars(book, number, kept, refused):
     bars = [bar for bar, _ in kept + refused]
     if not all([len(bar) == number for bar, _ in kept]) or not all([len(bar) <= number for bar in bars]):
         return False
-    # So many unlike ones are all of them; they are counted, as there may be far more than a paper has.
-    many = many_bars(len(book.moves), number)
-    return len(bars) == many and len(set(bars)) == many
+    # So many are all of them, as no bar has papers of both kinds. They are counted: they may be far too many to list.
+    return len(bars) == many_bars(len(book.moves), number)
 
 
 def many_bars(moves, number):

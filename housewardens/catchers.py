@@ -2,7 +2,7 @@
 
 from housewardens.devices import Device
 from housewardens.errors import Uncaught
-from housewardens.kinds import do_ascend, is_between, is_number_from, is_tuple_of
+from housewardens.kinds import do_ascend, is_number_from, is_tuple_of
 from housewardens.rounds import rounds_lost
 from housewardens.searches import all_met
 from housewardens.visits import Stay, first_case, is_lot_of_cases
@@ -25,9 +25,9 @@ class Hunt:
             return all([ticks > 0 for _, _, ticks in lot])
         return all([ticks < self.ticks for _, _, ticks in lot])
 
-    def faces_let(self, lot, rings):
-        """The numbers of the faces that are let in a lot and ring, or do not."""
-        return [face for face in range(len(self.faces)) if self.faces[face][1] == rings and self.is_let(lot, face)]
+    def faces_let(self, lot):
+        """The numbers of the faces that are let in a lot."""
+        return [face for face in range(len(self.faces)) if self.is_let(lot, face)]
 
     def pairs_behind(self, lot, face):
         """What can be heard, and the lots behind it; nothing is asked behind a face that rings."""
@@ -39,7 +39,7 @@ class Hunt:
 
     def rows_of(self, lot):
         """The lots behind a lot at each face that is let; a face that rings has none."""
-        return [self.targets(lot, face) for rings in (True, False) for face in self.faces_let(lot, rings)]
+        return [self.targets(lot, face) for face in self.faces_let(lot)]
 
     def lots_met(self, most):
         """All lots met by faces that are let and do not ring; raises TooMany(most) if these are more than most."""
@@ -63,7 +63,7 @@ def verdict(hunt, most):
 
 def good_face(hunt, lost, lot):
     """A face that is let in a lot and never leads to one that is lost, if there is any."""
-    faces = hunt.faces_let(lot, True) + hunt.faces_let(lot, False)
+    faces = hunt.faces_let(lot)
     return [face for face in faces if not any([target in lost for target in hunt.targets(lot, face)])][0]
 
 
@@ -119,7 +119,7 @@ def does_device_catch(hunt, device, rows):
     """Whether any two values are a device that shows these faces, and rows that show that it catches."""
     if not isinstance(device, Device) or max(device.shown) >= len(hunt.faces) or not are_rows(hunt, rows):
         return False
-    if not all([is_between(state, 0, len(device) - 1) for _, state in rows]):
+    if not all([state < len(device) for _, state in rows]):
         return False
     known = set(rows)
     if (hunt.first, 0) not in known or not all([hunt.is_let(lot, device.shown[state]) for lot, state in rows]):

@@ -197,6 +197,16 @@ class Papers(unittest.TestCase):
         for number in (-1, -(10**39)):
             self.assertIs(bars_paper_holds(QUIET, FACES, OPEN_SHUT, ("no bar", number, ())), False)
 
+    def test_a_greater_bar_in_the_place_of_one_that_is_missing(self):
+        faces, harms = ((True, True),), ("bell",)
+        pairs = [(bar, judge_keeping(barred_book(STREET, bar), faces, harms)) for bar in ((), (0,), (0, 1), (1,))]
+        for number in range(4):
+            for many in range(5):
+                for rows in itertools.combinations(pairs, many):
+                    right = {len(bar) <= number for bar, _ in pairs if bar not in dict(rows)} <= {False}
+                    right = right and all(len(bar) <= number for bar, _ in rows)
+                    self.assertIs(bars_paper_holds(STREET, faces, harms, ("no bar", number, rows)), right)
+
     def test_parts_more_less_exchanged(self):
         paper = bars_paper(QUIET, FACES, OPEN_SHUT)
         _, number, kept, refused = paper

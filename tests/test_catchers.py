@@ -259,6 +259,18 @@ class Papers(unittest.TestCase):
                 found = calls_leave_alone(self, lambda value: guest_holds(CALM, faces, guest, ticks, value), thing)
                 self.assertIs(found, is_plain_guest(CALM, faces, guest, ticks, thing), thing)
 
+    def test_lots_that_are_none_in_rows_that_are_right(self):
+        rows = self.rows_with(CATCHER, BELLS, THIEF, [(FIRST, 0)])
+        inside, later = ((0,), 1, 1), ((0,), 1, 2)
+        for lot, right in (((inside,), True), ((inside, later), True), ((), False), ((later, inside), False),
+                           ((inside, inside), False), ((inside, ((1,), 1, 1)), False), ((inside, ((0,), 2, 1)), False)):  # fmt: skip
+            thing = ("caught", CATCHER, tuple(sorted({*rows, (lot, 2)})))
+            self.assertIs(self.check(CALM, BELLS, THIEF, 2, thing), right, lot)
+        away, odd = ((0,), 0, 0), ((0,), 1, 7)
+        for lot, right in (((away, odd), True), ((), False), ((odd, away), False), ((away, away, odd), False)):
+            thing = ("unheard", tuple(sorted({*UNHEARD[1], (lot, 0)})))
+            self.assertIs(self.check(CALM, BELLS, THIEF, 1, thing), right, lot)
+
     def test_rows_just_outside(self):
         paper = judge_guest(CALM, BELLS, NO_MOVES, 1)
         device = paper[1]

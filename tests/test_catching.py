@@ -221,6 +221,11 @@ class Papers(unittest.TestCase):
             self.assertIs(catching_holds(ward, NO_MOVES, 1, thing), False)
             self.assertIs(catching_holds(ward, NO_MOVES, 1, ("catches", ((((0,), 0, 0), state),))), False)
         self.assertIs(catching_holds(ward, NO_MOVES, 1, ("catches", ())), False)
+        # The last state of the catcher rings, so that nothing is asked of the sights behind it.
+        rows = judge_catching(CAUGHT_WARD, THIEF, 2)[1]
+        for state, right in ((2, True), (-1, False), (3, False), (2.0, False)):
+            thing = ("catches", tuple(sorted({*rows, (((0,), 1, 9), state)})))
+            self.assertIs(catching_holds(CAUGHT_WARD, THIEF, 2, thing), right, state)
 
 
 class Doubts(unittest.TestCase):

@@ -217,6 +217,13 @@ class Papers(unittest.TestCase):
         self.assertIs(self.check(ward, Onlooker("", (0, 1)), "empty", ("never", lots)), False)
         self.assertIs(self.check(ward, Onlooker("", (5, 5)), "empty", ("never", lots)), True)
 
+    def test_lots_that_are_none_beside_lots_that_are_right(self):
+        gone, both = ((1,), 0), ((0, 1), 0)
+        for lot, right in (((both,), True), ((gone, both), False), ((both, gone, gone), False), ((both, both), False),
+                           ((), False), ((both, ((2,), 0)), False)):  # fmt: skip
+            thing = ("never", tuple(sorted({*NEVER[1], (both,), lot})))
+            self.assertIs(self.check(STREET_WARD, EAR, "empty", thing), right, lot)
+
     def test_states_just_outside(self):
         for state in (-1, 1, True, HUGE):
             for where in ((0,), (0, 1), (2,), ()):
